@@ -1,0 +1,59 @@
+// Package limits tells what a right configuration, a sample and a sound are.
+package limits
+
+import "reel/api"
+
+// Within tells whether v is from least to most.
+func Within(v, least, most int) bool {
+	return least <= v && v <= most
+}
+
+// RightConfig tells whether a configuration is right.
+func RightConfig(c api.Config) bool {
+	return Within(c.Channels, 1, api.MaxChannels) &&
+		Within(c.Depth, api.MinDepth, api.MaxDepth) &&
+		Within(c.Block, 1, api.MaxBlock) &&
+		Within(c.Rate, 0, api.MaxRate) &&
+		Within(c.Seek, 0, api.MaxSeek) &&
+		Within(c.Workers, 1, api.MaxWorkers) &&
+		Within(c.Window, 1, api.MaxWindow) &&
+		Within(c.Room, 1, api.MaxRoom)
+}
+
+// IsSample tells whether v is a sample of width bits; width is at least 1.
+func IsSample(width, v int) bool {
+	half := 1 << (width - 1)
+	return Within(v, -half, half-1)
+}
+
+// AreSamples tells whether all of a list are samples of width bits.
+func AreSamples(width int, l []int) bool {
+	for _, v := range l {
+		if !IsSample(width, v) {
+			return false
+		}
+	}
+	return true
+}
+
+// IsSubframeSize tells whether a subframe may have n samples of width bits.
+func IsSubframeSize(width, n int) bool {
+	return Within(width, 1, api.MaxWidth) && Within(n, 1, api.MaxBlock)
+}
+
+// IsSound tells whether lists are a sound of a right configuration.
+func IsSound(c api.Config, lists [][]int) bool {
+	if len(lists) != c.Channels {
+		return false
+	}
+	count := len(lists[0])
+	if count > api.MaxSamples {
+		return false
+	}
+	for _, l := range lists {
+		if len(l) != count || !AreSamples(c.Depth, l) {
+			return false
+		}
+	}
+	return true
+}

@@ -1,0 +1,128 @@
+package reel
+
+import (
+	"math"
+	"slices"
+	"strings"
+	"testing"
+
+	"reel/api"
+)
+
+// spared is a copy of a list with spare room behind it, in which 77 stands.
+func spared(l []int) []int {
+	whole := slices.Repeat([]int{77}, len(l)+40)
+	copy(whole, l)
+	return whole[:len(l)]
+}
+
+func untouched(t *testing.T, name string, l, want []int) {
+	t.Helper()
+	if !slices.Equal(l, want) {
+		t.Errorf("P2: %s wrote into what it was given: %v", name, l)
+	}
+	for _, v := range l[len(l):cap(l)] {
+		if v != 77 {
+			t.Errorf("P2: %s wrote into the spare room", name)
+			return
+		}
+	}
+}
+
+func TestNothingHandedInIsWritten(t *testing.T) {
+	r := ruler(2)
+	for w := 1; w <= api.MaxWidth; w++ {
+		for _, n := range []int{1, 2, 3, 8, 31, 32} {
+			for _, want := range shapes(&r, w, n) {
+				l := spared(want)
+				Code(w, l)
+				untouched(t, "Code", l, want)
+			}
+		}
+	}
+	c := rightConfig()
+	c.Channels = 2
+	sound := [][]int{spared([]int{1, 2, 3}), spared([]int{4, 5, 6}), {9}}
+	for _, n := range []int{1, 2, 3} {
+		Check(c, sound[:n])
+		untouched(t, "Check", sound[0], []int{1, 2, 3})
+		untouched(t, "Check", sound[1], []int{4, 5, 6})
+		if len(sound[2]) != 1 || sound[2][0] != 9 {
+			t.Error("P2: Check wrote behind the lists")
+		}
+	}
+}
+
+func TestNothingHandedInIsKept(t *testing.T) {
+	l := []int{1, 2, 3, 4, 5, 6, 7, 8}
+	before, _ := Code(5, l)
+	clear(l)
+	if again, _ := Code(5, []int{1, 2, 3, 4, 5, 6, 7, 8}); again != before {
+		t.Error("P2: Code kept the list")
+	}
+	if zeros, _ := Code(5, l); zeros != codeOf(5, l) {
+		t.Error("P2: Code answers what it was asked before")
+	}
+}
+
+func TestListsThatComeOutAreNew(t *testing.T) {
+	for _, s := range []string{"000000000011", "00010000" + "0011" + "0011" + "0011", "00110000" + "0011" + "00" + "0000" + "11"} {
+		first, _, e := Read(4, 3, s)
+		if e != api.OK {
+			t.Fatalf("Read(4, 3, %s): %d", s, e)
+		}
+		second, _, _ := Read(4, 3, s)
+		for i := range first {
+			first[i] = 99
+		}
+		spare := first[:cap(first)]
+		for i := range spare {
+			spare[i] = 98
+		}
+		third, _, _ := Read(4, 3, s)
+		for _, l := range [][]int{second, third} {
+			if !slices.Equal(l, []int{3, 3, 3}) {
+				t.Errorf("P2: Read(4, 3, %s) shares its answer: %v", s, l)
+			}
+			if slices.Contains(l[len(l):cap(l)], 98) {
+				t.Errorf("P2: Read(4, 3, %s) shares its spare room", s)
+			}
+		}
+	}
+}
+
+// A call that panics or does not end breaks the test off.
+func TestEveryCallEnds(t *testing.T) {
+	odd := []int{math.MinInt, math.MinInt + 1, -1 << 32, -65, -1, 0, 1, 4, 12, 13, 14, 32, 33, 63, 64, 65, 1 << 32, math.MaxInt}
+	lists := [][]int{nil, {}, {0}, {math.MinInt}, {math.MaxInt, math.MinInt}, make([]int, 32), make([]int, 33), odd}
+	texts := []string{"", "0", "1", "\x00", "\xff\xfe", "é", strings.Repeat("0", api.MaxBits), strings.Repeat("1", api.MaxBits), strings.Repeat("01", 100000)}
+	for kind := range 16 {
+		texts = append(texts, inBits(kind, 4)+strings.Repeat("0", 500), inBits(kind, 4)+"0000"+strings.Repeat("1", 500), inBits(kind, 4)+"0000"+strings.Repeat("01", 250))
+	}
+	for _, w := range odd {
+		for _, l := range lists {
+			if s, e := Code(w, l); e != api.OK && s != "" {
+				t.Errorf("P1: Code(%d, %v) answers %q with the error %d", w, l, s, e)
+			}
+		}
+		for _, n := range odd {
+			for _, s := range texts {
+				if l, k, e := Read(w, n, s); e != api.OK && (len(l) != 0 || k != 0) {
+					t.Errorf("P1: Read(%d, %d, ..) answers %v, %d with the error %d", w, n, l, k, e)
+				}
+			}
+		}
+		for _, channels := range odd {
+			c := rightConfig()
+			c.Channels, c.Depth = channels, w
+			for n := range len(lists) + 1 {
+				Check(c, lists[:n])
+			}
+		}
+	}
+	for _, s := range texts {
+		Eight(s)
+		Sixteen(s)
+		Sum(s)
+	}
+}

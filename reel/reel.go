@@ -1,0 +1,98 @@
+// Package reel: sound, packed without loss, block by block, by several workers: see DOC.md.
+package reel
+
+import (
+	"reel/api"
+	"reel/bittext"
+	"reel/limits"
+	"reel/subframe"
+	"reel/sums"
+)
+
+// Line packs one sound, a step at a time.
+type Line struct{}
+
+// Check tells whether a configuration and a sound of it are right (P3).
+func Check(c api.Config, sound [][]int) api.Errno {
+	if !limits.RightConfig(c) {
+		return api.ErrConfig
+	}
+	if !limits.IsSound(c, sound) {
+		return api.ErrSound
+	}
+	return api.OK
+}
+
+// Eight is the check of bytes in eight bits (P4).
+func Eight(s string) int { return sums.Eight(s) }
+
+// Sixteen is the check of bytes in sixteen bits (P4).
+func Sixteen(s string) int { return sums.Sixteen(s) }
+
+// Sum is the sum of bytes (P4).
+func Sum(s string) int { return sums.Sum(s) }
+
+// Code lays samples down as the shortest subframe (P5).
+func Code(width int, l []int) (string, api.Errno) {
+	if !limits.IsSubframeSize(width, len(l)) || !limits.AreSamples(width, l) {
+		return "", api.ErrArg
+	}
+	return subframe.Code(width, l), api.OK
+}
+
+// Read reads a subframe: its samples, and how many bits it has (P6).
+func Read(width int, n int, bits string) ([]int, int, api.Errno) {
+	if !limits.IsSubframeSize(width, n) {
+		return nil, 0, api.ErrArg
+	}
+	if len(bits) > api.MaxBits {
+		return nil, 0, api.ErrLong
+	}
+	if !bittext.IsBits(bits) {
+		return nil, 0, api.ErrBits
+	}
+	samples, length, ok := subframe.Read(width, n, bits)
+	if !ok {
+		return nil, 0, api.ErrBits
+	}
+	return samples, length, api.OK
+}
+
+// Frame packs a block (P7).
+func Frame(c api.Config, number int, block [][]int) (string, api.Errno) { return "", api.OK }
+
+// Unframe reads a frame: its samples, and how many bytes it has (P8).
+func Unframe(c api.Config, number int, s string) ([][]int, int, api.Errno) { return nil, 0, api.OK }
+
+// Encode packs a sound into a stream (P9).
+func Encode(c api.Config, sound [][]int) (string, api.Errno) { return "", api.OK }
+
+// Decode gives a stream's sound back (P10).
+func Decode(s string) (api.Info, [][]int, api.Errno) { return api.Info{}, nil, api.OK }
+
+// Salvage gives back what whole frames there are (P11).
+func Salvage(s string) (api.Info, [][]int, api.Errno) { return api.Info{}, nil, api.OK }
+
+// From gives a stream's samples back from a place on (P12).
+func From(s string, at int) ([][]int, api.Errno) { return nil, api.OK }
+
+// New makes a line; the sink's write of the number fail fails (P13).
+func New(c api.Config, sound [][]int, fail int) (*Line, api.Errno) { return nil, api.OK }
+
+// Able tells which tasks are able to step (P15).
+func (l *Line) Able() []int { return nil }
+
+// Step lets one of the tasks that are able make a step, and tells which (P15).
+func (l *Line) Step(pick int) (int, api.Errno) { return 0, api.OK }
+
+// Cancel stops the line (P15).
+func (l *Line) Cancel() api.Errno { return api.OK }
+
+// Look tells how the line is (P16).
+func (l *Line) Look() api.View { return api.View{} }
+
+// Bytes tells what the sink holds (P16).
+func (l *Line) Bytes() string { return "" }
+
+// Pack packs a sound into a stream, with workers beside one another (P17).
+func Pack(c api.Config, sound [][]int) (string, api.Errno) { return "", api.OK }

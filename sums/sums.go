@@ -1,0 +1,45 @@
+// Package sums has the checks of bytes: two remainders and a running sum.
+package sums
+
+const (
+	eightDivisor   = 0b100000111
+	sixteenDivisor = 0b11000000000000101
+	sumModulus     = 65521
+	sumHalf        = 65536
+)
+
+// Eight is the check of bytes in eight bits.
+func Eight(s string) int {
+	return remainder(s, 8, eightDivisor)
+}
+
+// Sixteen is the check of bytes in sixteen bits.
+func Sixteen(s string) int {
+	return remainder(s, 16, sixteenDivisor)
+}
+
+// remainder holds only the size bits behind the first 1 that is left: all bits
+// ahead of it are 0, and those behind it have not been turned yet.
+func remainder(s string, size, divisor int) int {
+	rest := 0
+	for i := range len(s) {
+		rest ^= int(s[i]) << (size - 8)
+		for range 8 {
+			rest <<= 1
+			if rest>>size == 1 {
+				rest ^= divisor
+			}
+		}
+	}
+	return rest
+}
+
+// Sum is the sum of bytes.
+func Sum(s string) int {
+	a, b := 1, 0
+	for i := range len(s) {
+		a = (a + int(s[i])) % sumModulus
+		b = (b + a) % sumModulus
+	}
+	return sumHalf*b + a
+}

@@ -1,0 +1,25 @@
+package sums
+
+import "testing"
+
+func TestKnownChecks(t *testing.T) {
+	const s = "123456789"
+	if n := Eight(s); n != 0xf4 {
+		t.Errorf("Eight(%q) = %#x", s, n)
+	}
+	if n := Sixteen(s); n != 0xfee8 {
+		t.Errorf("Sixteen(%q) = %#x", s, n)
+	}
+	if n := Sum(s); n != 0x091e01de {
+		t.Errorf("Sum(%q) = %#x", s, n)
+	}
+}
+
+func TestBytesAreNotRunes(t *testing.T) {
+	if Sum("\xc3\xa9") != (1+0xc3+1+0xc3+0xa9)*65536+1+0xc3+0xa9 {
+		t.Error("Sum takes a rune for a byte")
+	}
+	if Eight("\xc3\xa9") == Eight("\xe9") || Sixteen("\xff") == Sixteen("\ufffd") {
+		t.Error("a rune is taken for a byte")
+	}
+}
