@@ -3,6 +3,8 @@ package bittext
 
 import "strings"
 
+const byteBits = 8
+
 // IsBits tells whether nothing but 0 and 1 stands in a text.
 func IsBits(s string) bool {
 	for i := range len(s) {
@@ -11,6 +13,29 @@ func IsBits(s string) bool {
 		}
 	}
 	return true
+}
+
+// Bytes packs bits into bytes; 0s fill the last one up.
+func Bytes(text string) string {
+	out := make([]byte, (len(text)+byteBits-1)/byteBits)
+	for i := range len(text) {
+		out[i/byteBits] |= (text[i] - '0') << (byteBits - 1 - i%byteBits)
+	}
+	return string(out)
+}
+
+// OfBytes are the bits of bytes.
+func OfBytes(s string) string {
+	var out Writer
+	for i := range len(s) {
+		out.Number(int(s[i]), byteBits)
+	}
+	return out.Text()
+}
+
+// IsFill tells whether bits do nothing but fill a byte up.
+func IsFill(text string) bool {
+	return len(text) < byteBits && strings.Trim(text, "0") == ""
 }
 
 // Fold turns whole numbers into numbers from 0 on, those near 0 into small ones.

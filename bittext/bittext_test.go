@@ -75,3 +75,27 @@ func TestIsBits(t *testing.T) {
 		}
 	}
 }
+
+func TestBitsAndBytes(t *testing.T) {
+	for bits, want := range map[string]string{
+		"": "", "1": "\x80", "00000001": "\x01", "000000001": "\x00\x80", "000000000": "\x00\x00", "0000000011111111": "\x00\xff",
+		"1010010101": "\xa5\x40", "1100001110101001": "\xc3\xa9",
+	} {
+		s := Bytes(bits)
+		if s != want {
+			t.Errorf("Bytes(%s) = %q, want %q", bits, s, want)
+		}
+		back := OfBytes(s)
+		if len(back) != 8*len(s) || back[:len(bits)] != bits || !IsFill(back[len(bits):]) {
+			t.Errorf("OfBytes(%q) = %s, want %s", s, back, bits)
+		}
+	}
+}
+
+func TestIsFill(t *testing.T) {
+	for bits, want := range map[string]bool{"": true, "0": true, "0000000": true, "00000000": false, "1": false, "0000001": false, "1000000": false, "0001000": false} {
+		if IsFill(bits) != want {
+			t.Errorf("IsFill(%s) is %v", bits, !want)
+		}
+	}
+}

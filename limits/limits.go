@@ -1,4 +1,4 @@
-// Package limits tells what a right configuration, a sample and a sound are.
+// Package limits tells what a right configuration, a sample, a sound and a block are.
 package limits
 
 import "reel/api"
@@ -43,11 +43,22 @@ func IsSubframeSize(width, n int) bool {
 
 // IsSound tells whether lists are a sound of a right configuration.
 func IsSound(c api.Config, lists [][]int) bool {
+	return areChannels(c, lists, 0, api.MaxSamples)
+}
+
+// IsBlock tells whether lists are a block, of which a frame can be made, of a right configuration.
+func IsBlock(c api.Config, lists [][]int) bool {
+	return areChannels(c, lists, 1, c.Block)
+}
+
+// areChannels tells whether lists are the channels of a right configuration,
+// all with the same count of samples, which is from least to most.
+func areChannels(c api.Config, lists [][]int, least, most int) bool {
 	if len(lists) != c.Channels {
 		return false
 	}
 	count := len(lists[0])
-	if count > api.MaxSamples {
+	if !Within(count, least, most) {
 		return false
 	}
 	for _, l := range lists {

@@ -28,3 +28,19 @@ func TestIsSubframeSize(t *testing.T) {
 		}
 	}
 }
+
+func TestIsBlockAndIsSound(t *testing.T) {
+	c := api.Config{Channels: 2, Depth: 4, Block: 3}
+	for i, b := range []struct {
+		lists        [][]int
+		block, sound bool
+	}{
+		{[][]int{{1}, {2}}, true, true}, {[][]int{{1, 2, 3}, {-8, 7, 0}}, true, true}, {[][]int{{}, nil}, false, true},
+		{[][]int{{1, 2, 3, 4}, {1, 2, 3, 4}}, false, true}, {[][]int{{1, 2}, {1}}, false, false}, {[][]int{{1}, {1, 2}}, false, false},
+		{[][]int{{1}}, false, false}, {[][]int{{1}, {1}, {1}}, false, false}, {nil, false, false}, {[][]int{{8}, {1}}, false, false}, {[][]int{{1}, {-9}}, false, false},
+	} {
+		if IsBlock(c, b.lists) != b.block || IsSound(c, b.lists) != b.sound {
+			t.Errorf("lists %d: IsBlock %v, IsSound %v", i, !b.block, !b.sound)
+		}
+	}
+}

@@ -53,6 +53,99 @@ func TestNothingHandedInIsWritten(t *testing.T) {
 	}
 }
 
+func TestFrameWritesNothing(t *testing.T) {
+	r := ruler(3)
+	for channels := 1; channels <= 4; channels++ {
+		for _, n := range []int{1, 2, 7, 32} {
+			all := make([][]int, channels, channels+1)
+			want := make([][]int, channels)
+			for i := range all {
+				want[i] = shapes(&r, 9, n)[r.below(14)]
+				all[i] = spared(want[i])
+			}
+			all[:channels+1][channels] = []int{9}
+			if _, e := Frame(configOf(channels, 9, 32), 1, all); e != api.OK {
+				t.Fatalf("Frame: %d", e)
+			}
+			for i, l := range all {
+				untouched(t, "Frame", l, want[i])
+			}
+			if behind := all[:channels+1][channels]; len(behind) != 1 || behind[0] != 9 {
+				t.Error("P2: Frame wrote behind the lists")
+			}
+		}
+	}
+}
+
+// One list may stand for two channels.
+func TestFrameOfOneListTwice(t *testing.T) {
+	l := []int{3, 1, 4, 1, 5}
+	checkFrame(t, configOf(2, 4, 5), 0, [][]int{l, l})
+	checkFrame(t, configOf(4, 4, 5), 0, [][]int{l, l, l, l})
+	if !slices.Equal(l, []int{3, 1, 4, 1, 5}) {
+		t.Errorf("P2: Frame wrote into what it was given: %v", l)
+	}
+}
+
+func TestListsOfAFrameAreNew(t *testing.T) {
+	r := ruler(14)
+	for channels := 1; channels <= 4; channels++ {
+		for mode := range 4 {
+			block := make([][]int, channels)
+			bits := ""
+			for i := range block {
+				block[i] = anySamples(&r, 6, 5)
+				bits += loose(&r, 6, block[i])
+			}
+			if channels == 2 {
+				lists, widths := toldBy(mode, 6, block[0], block[1])
+				bits = loose(&r, widths[0], lists[0]) + loose(&r, widths[1], lists[1])
+			} else if mode > 0 {
+				continue
+			}
+			s := framed(0, 5, mode, packed(bits))
+			ask := func() [][]int {
+				got, _, _ := Unframe(configOf(channels, 6, 5), 0, s)
+				return got
+			}
+			if !sameLists(ask(), block) {
+				t.Fatalf("Unframe of mode %d answers %v, want %v", mode, ask(), block)
+			}
+			areNew(t, ask)
+		}
+	}
+}
+
+// areNew writes into all that an answer holds, and behind it, one list at a
+// time, and looks whether anything else comes out another than before.
+func areNew(t *testing.T, ask func() [][]int) {
+	t.Helper()
+	before := ask()
+	want := make([][]int, len(before))
+	for i, l := range before {
+		want[i] = slices.Clone(l)
+	}
+	for i := range want {
+		answer := ask()
+		for _, room := range [][]int{answer[i], answer[i][:cap(answer[i])], append(answer[i], 98)} {
+			for j := range room {
+				room[j] = 99
+			}
+		}
+		for j := range answer {
+			if j != i && !slices.Equal(answer[j], want[j]) {
+				t.Errorf("P2: lists %d and %d share memory", i, j)
+			}
+		}
+	}
+	spare := ask()
+	spare = spare[:cap(spare)]
+	clear(spare)
+	if !sameLists(before, want) || !sameLists(ask(), want) {
+		t.Error("P2: two answers share memory")
+	}
+}
+
 func TestNothingHandedInIsKept(t *testing.T) {
 	l := []int{1, 2, 3, 4, 5, 6, 7, 8}
 	before, _ := Code(5, l)
@@ -117,6 +210,21 @@ func TestEveryCallEnds(t *testing.T) {
 			c.Channels, c.Depth = channels, w
 			for n := range len(lists) + 1 {
 				Check(c, lists[:n])
+			}
+		}
+	}
+	for _, number := range odd {
+		for channels := range 6 {
+			c := configOf(channels, 4, 32)
+			for n := range len(lists) + 1 {
+				if s, e := Frame(c, number, lists[:n]); e != api.OK && s != "" {
+					t.Errorf("P1: Frame answers %q with the error %d", s, e)
+				}
+			}
+			for _, s := range texts {
+				if l, k, e := Unframe(c, number, s); e != api.OK && (len(l) != 0 || k != 0) {
+					t.Errorf("P1: Unframe answers %v, %d with the error %d", l, k, e)
+				}
 			}
 		}
 	}

@@ -4,6 +4,7 @@ package reel
 import (
 	"reel/api"
 	"reel/bittext"
+	"reel/frame"
 	"reel/limits"
 	"reel/subframe"
 	"reel/sums"
@@ -59,10 +60,41 @@ func Read(width int, n int, bits string) ([]int, int, api.Errno) {
 }
 
 // Frame packs a block (P7).
-func Frame(c api.Config, number int, block [][]int) (string, api.Errno) { return "", api.OK }
+func Frame(c api.Config, number int, block [][]int) (string, api.Errno) {
+	if errno := checkNumbered(c, number); errno != api.OK {
+		return "", errno
+	}
+	if !limits.IsBlock(c, block) {
+		return "", api.ErrSound
+	}
+	return frame.Make(c, number, block), api.OK
+}
 
 // Unframe reads a frame: its samples, and how many bytes it has (P8).
-func Unframe(c api.Config, number int, s string) ([][]int, int, api.Errno) { return nil, 0, api.OK }
+func Unframe(c api.Config, number int, s string) ([][]int, int, api.Errno) {
+	if errno := checkNumbered(c, number); errno != api.OK {
+		return nil, 0, errno
+	}
+	if len(s) > api.MaxStream {
+		return nil, 0, api.ErrLong
+	}
+	lists, length, ok := frame.Read(c, number, s)
+	if !ok {
+		return nil, 0, api.ErrFrame
+	}
+	return lists, length, api.OK
+}
+
+// checkNumbered tells whether there can be a frame of this number.
+func checkNumbered(c api.Config, number int) api.Errno {
+	if !limits.RightConfig(c) {
+		return api.ErrConfig
+	}
+	if !limits.Within(number, 0, api.MaxNumber) {
+		return api.ErrArg
+	}
+	return api.OK
+}
 
 // Encode packs a sound into a stream (P9).
 func Encode(c api.Config, sound [][]int) (string, api.Errno) { return "", api.OK }

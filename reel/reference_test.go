@@ -237,3 +237,85 @@ func codeOf(w int, l []int) string {
 	}
 	return best
 }
+
+// laidDown are bytes, each of which is a number below 256.
+func laidDown(l ...int) string {
+	out := make([]byte, len(l))
+	for i, v := range l {
+		out[i] = byte(v)
+	}
+	return string(out)
+}
+
+func withEight(s string) string {
+	return s + laidDown(divided(s, "100000111"))
+}
+
+func withSixteen(s string) string {
+	v := divided(s, "11000000000000101")
+	return s + laidDown(v/256, v%256)
+}
+
+// packed are the bytes of bits, with as many 0s as fill the last one up.
+func packed(bits string) string {
+	for len(bits)%8 != 0 {
+		bits += "0"
+	}
+	out := make([]byte, 0, len(bits)/8)
+	for i := 0; i < len(bits); i += 8 {
+		v, _ := strconv.ParseUint(bits[i:i+8], 2, 8)
+		out = append(out, byte(v))
+	}
+	return string(out)
+}
+
+// framed is what has the outer shape of a frame, whatever its subframes' bytes are.
+func framed(number, n, mode int, body string) string {
+	length := 8 + len(body) + 2
+	return withSixteen(withEight(laidDown(165, number/256, number%256, length/256, length%256, n-1, mode)) + body)
+}
+
+// toldBy are the samples that the two subframes tell in a mode, and their widths.
+func toldBy(mode, depth int, l, r []int) ([2][]int, [2]int) {
+	s, m := make([]int, len(l)), make([]int, len(l))
+	for i := range l {
+		s[i] = l[i] - r[i]
+		m[i] = (l[i] + r[i] - ((l[i]+r[i])%2+2)%2) / 2
+	}
+	switch mode {
+	case 1:
+		return [2][]int{l, s}, [2]int{depth, depth + 1}
+	case 2:
+		return [2][]int{s, r}, [2]int{depth + 1, depth}
+	case 3:
+		return [2][]int{m, s}, [2]int{depth, depth + 1}
+	}
+	return [2][]int{l, r}, [2]int{depth, depth}
+}
+
+// pairBits are the two subframes' bits of each mode.
+func pairBits(depth int, l, r []int) [4]string {
+	both, widths := toldBy(3, depth, l, r)
+	ofL, ofR := codeOf(depth, l), codeOf(depth, r)
+	ofM, ofS := codeOf(widths[0], both[0]), codeOf(widths[1], both[1])
+	return [4]string{ofL + ofR, ofL + ofS, ofS + ofR, ofM + ofS}
+}
+
+// frameOf is the frame that Frame must make.
+func frameOf(depth, number int, block [][]int) string {
+	mode, bits := 0, ""
+	if len(block) == 2 {
+		all := pairBits(depth, block[0], block[1])
+		for m := range all {
+			if len(all[m]) < len(all[mode]) {
+				mode = m
+			}
+		}
+		bits = all[mode]
+	} else {
+		for _, l := range block {
+			bits += codeOf(depth, l)
+		}
+	}
+	return framed(number, len(block[0]), mode, packed(bits))
+}

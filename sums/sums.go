@@ -1,6 +1,14 @@
 // Package sums has the checks of bytes: two remainders and a running sum.
 package sums
 
+import "reel/bytenum"
+
+// How many bytes the checks have that stand behind what they seal.
+const (
+	EightSize   = 1
+	SixteenSize = 2
+)
+
 const (
 	eightDivisor   = 0b100000111
 	sixteenDivisor = 0b11000000000000101
@@ -16,6 +24,26 @@ func Eight(s string) int {
 // Sixteen is the check of bytes in sixteen bits.
 func Sixteen(s string) int {
 	return remainder(s, 16, sixteenDivisor)
+}
+
+// SealByEight lays Eight of bytes behind them.
+func SealByEight(s string) string {
+	return s + bytenum.In(Eight(s), EightSize)
+}
+
+// SealBySixteen lays Sixteen of bytes behind them.
+func SealBySixteen(s string) string {
+	return s + bytenum.In(Sixteen(s), SixteenSize)
+}
+
+// IsSealedByEight tells whether the last byte is Eight of those ahead of it.
+func IsSealedByEight(s string) bool {
+	return len(s) >= EightSize && SealByEight(s[:len(s)-EightSize]) == s
+}
+
+// IsSealedBySixteen tells whether the last two bytes are Sixteen of those ahead of them.
+func IsSealedBySixteen(s string) bool {
+	return len(s) >= SixteenSize && SealBySixteen(s[:len(s)-SixteenSize]) == s
 }
 
 // remainder holds only the size bits behind the first 1 that is left: all bits

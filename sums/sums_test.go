@@ -23,3 +23,23 @@ func TestBytesAreNotRunes(t *testing.T) {
 		t.Error("a rune is taken for a byte")
 	}
 }
+
+func TestSeals(t *testing.T) {
+	const s = "123456789"
+	if sealed := SealByEight(s); sealed != s+"\xf4" || !IsSealedByEight(sealed) {
+		t.Errorf("SealByEight(%q) = %q", s, sealed)
+	}
+	if sealed := SealBySixteen(s); sealed != s+"\xfe\xe8" || !IsSealedBySixteen(sealed) {
+		t.Errorf("SealBySixteen(%q) = %q", s, sealed)
+	}
+	for _, broken := range []string{"", s, s + "\xf5", "0" + s[1:] + "\xf4"} {
+		if IsSealedByEight(broken) {
+			t.Errorf("%q is taken for sealed by Eight", broken)
+		}
+	}
+	for _, broken := range []string{"", "\x01", s, s + "\xe8\xfe", s + "\xfe", s + "\xff\xe8", s + "\xfe\xe9"} {
+		if IsSealedBySixteen(broken) {
+			t.Errorf("%q is taken for sealed by Sixteen", broken)
+		}
+	}
+}
