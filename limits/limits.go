@@ -1,4 +1,5 @@
-// Package limits tells what a right configuration, a sample, a sound and a block are.
+// Package limits tells what a right configuration, a sample, a sound and a block are,
+// and of which sounds a head may tell.
 package limits
 
 import "reel/api"
@@ -8,13 +9,24 @@ func Within(v, least, most int) bool {
 	return least <= v && v <= most
 }
 
+// InfoOf is what a head says of a sound of a configuration, of so many samples in a channel.
+func InfoOf(c api.Config, samples int) api.Info {
+	return api.Info{Channels: c.Channels, Depth: c.Depth, Block: c.Block, Rate: c.Rate, Seek: c.Seek, Samples: samples}
+}
+
+// RightInfo tells whether there may be a sound of which a head says this.
+func RightInfo(i api.Info) bool {
+	return Within(i.Channels, 1, api.MaxChannels) &&
+		Within(i.Depth, api.MinDepth, api.MaxDepth) &&
+		Within(i.Block, 1, api.MaxBlock) &&
+		Within(i.Rate, 0, api.MaxRate) &&
+		Within(i.Seek, 0, api.MaxSeek) &&
+		Within(i.Samples, 0, api.MaxSamples)
+}
+
 // RightConfig tells whether a configuration is right.
 func RightConfig(c api.Config) bool {
-	return Within(c.Channels, 1, api.MaxChannels) &&
-		Within(c.Depth, api.MinDepth, api.MaxDepth) &&
-		Within(c.Block, 1, api.MaxBlock) &&
-		Within(c.Rate, 0, api.MaxRate) &&
-		Within(c.Seek, 0, api.MaxSeek) &&
+	return RightInfo(InfoOf(c, 0)) &&
 		Within(c.Workers, 1, api.MaxWorkers) &&
 		Within(c.Window, 1, api.MaxWindow) &&
 		Within(c.Room, 1, api.MaxRoom)

@@ -44,3 +44,21 @@ func TestIsBlockAndIsSound(t *testing.T) {
 		}
 	}
 }
+
+func TestRightInfo(t *testing.T) {
+	c := api.Config{Channels: 4, Depth: 12, Block: 32, Rate: 65535, Seek: 255, Workers: 1, Window: 1, Room: 1}
+	for samples, want := range map[int]bool{-1: false, 0: true, 300: true, 301: false, 65535: false} {
+		if RightInfo(InfoOf(c, samples)) != want {
+			t.Errorf("%d samples: %v", samples, !want)
+		}
+	}
+	for _, change := range []func(i *api.Info){
+		func(i *api.Info) { i.Channels = 5 }, func(i *api.Info) { i.Depth = 3 }, func(i *api.Info) { i.Block = 33 },
+		func(i *api.Info) { i.Rate = 65536 }, func(i *api.Info) { i.Seek = 256 },
+	} {
+		i := InfoOf(c, 0)
+		if change(&i); RightInfo(i) {
+			t.Errorf("%+v is taken for right", i)
+		}
+	}
+}

@@ -77,13 +77,50 @@ func TestFrameWritesNothing(t *testing.T) {
 	}
 }
 
+func TestEncodeWritesNothing(t *testing.T) {
+	r := ruler(28)
+	for channels := 1; channels <= 4; channels++ {
+		for _, n := range []int{0, 1, 2, 7, 40} {
+			c := configOf(channels, 9, 3)
+			c.Seek = n % 3
+			want := anySound(&r, c, n)
+			all := make([][]int, channels, channels+1)
+			for i := range all {
+				all[i] = spared(want[i])
+			}
+			all[:channels+1][channels] = []int{9}
+			before, e := Encode(c, all)
+			if e != api.OK {
+				t.Fatalf("Encode: %d", e)
+			}
+			for i, l := range all {
+				untouched(t, "Encode", l, want[i])
+			}
+			if behind := all[:channels+1][channels]; len(behind) != 1 || behind[0] != 9 {
+				t.Error("P2: Encode wrote behind the lists")
+			}
+			for _, l := range all {
+				clear(l[:cap(l)])
+			}
+			if again, _ := Encode(c, want); again != before {
+				t.Error("P2: Encode kept the lists")
+			}
+			if zeros, _ := Encode(c, all); zeros != streamOf(c, all) {
+				t.Error("P2: Encode answers what it was asked before")
+			}
+		}
+	}
+}
+
 // One list may stand for two channels.
-func TestFrameOfOneListTwice(t *testing.T) {
+func TestOneListTwice(t *testing.T) {
 	l := []int{3, 1, 4, 1, 5}
 	checkFrame(t, configOf(2, 4, 5), 0, [][]int{l, l})
 	checkFrame(t, configOf(4, 4, 5), 0, [][]int{l, l, l, l})
+	checkEncode(t, configOf(2, 4, 2), [][]int{l, l})
+	checkEncode(t, configOf(4, 4, 2), [][]int{l, l, l, l})
 	if !slices.Equal(l, []int{3, 1, 4, 1, 5}) {
-		t.Errorf("P2: Frame wrote into what it was given: %v", l)
+		t.Errorf("P2: Frame or Encode wrote into what it was given: %v", l)
 	}
 }
 
@@ -112,6 +149,24 @@ func TestListsOfAFrameAreNew(t *testing.T) {
 				t.Fatalf("Unframe of mode %d answers %v, want %v", mode, ask(), block)
 			}
 			areNew(t, ask)
+		}
+	}
+}
+
+func TestListsOfAStreamAreNew(t *testing.T) {
+	r := ruler(29)
+	for channels := 1; channels <= 4; channels++ {
+		for _, n := range []int{0, 1, 4, 5, 9} {
+			c := configOf(channels, 6, 4)
+			c.Seek = n % 2
+			sound := anySound(&r, c, n)
+			s, _ := Encode(c, sound)
+			areNew(t, func() [][]int { _, got, _ := Decode(s); return got })
+			areNew(t, func() [][]int { _, got, _ := Salvage(s); return got })
+			areNew(t, func() [][]int { _, got, _ := Salvage(s[:len(s)-1]); return got })
+			for at := range n + 1 {
+				areNew(t, func() [][]int { got, _ := From(s, at); return got })
+			}
 		}
 	}
 }
@@ -232,5 +287,25 @@ func TestEveryCallEnds(t *testing.T) {
 		Eight(s)
 		Sixteen(s)
 		Sum(s)
+	}
+	for channels := range 6 {
+		for n := range len(lists) + 1 {
+			if s, e := Encode(configOf(channels, 4, 32), lists[:n]); e != api.OK && s != "" {
+				t.Errorf("P1: Encode answers %q with the error %d", s, e)
+			}
+		}
+	}
+	for _, s := range append(texts, exampleStream, exampleHead, exampleBare, emptyStream) {
+		for _, at := range odd {
+			if l, e := From(s, at); e != api.OK && len(l) != 0 {
+				t.Errorf("P1: From answers %v with the error %d", l, e)
+			}
+		}
+		if info, l, e := Decode(s); e != api.OK && (info != api.Info{} || len(l) != 0) {
+			t.Errorf("P1: Decode answers %+v, %v with the error %d", info, l, e)
+		}
+		if info, l, e := Salvage(s); e != api.OK && (info != api.Info{} || len(l) != 0) {
+			t.Errorf("P1: Salvage answers %+v, %v with the error %d", info, l, e)
+		}
 	}
 }

@@ -6,6 +6,7 @@ import (
 	"reel/bittext"
 	"reel/frame"
 	"reel/limits"
+	"reel/stream"
 	"reel/subframe"
 	"reel/sums"
 )
@@ -97,16 +98,36 @@ func checkNumbered(c api.Config, number int) api.Errno {
 }
 
 // Encode packs a sound into a stream (P9).
-func Encode(c api.Config, sound [][]int) (string, api.Errno) { return "", api.OK }
+func Encode(c api.Config, sound [][]int) (string, api.Errno) {
+	if errno := Check(c, sound); errno != api.OK {
+		return "", errno
+	}
+	return stream.Encode(c, sound), api.OK
+}
 
 // Decode gives a stream's sound back (P10).
-func Decode(s string) (api.Info, [][]int, api.Errno) { return api.Info{}, nil, api.OK }
+func Decode(s string) (api.Info, [][]int, api.Errno) {
+	if len(s) > api.MaxStream {
+		return api.Info{}, nil, api.ErrLong
+	}
+	return stream.Decode(s)
+}
 
 // Salvage gives back what whole frames there are (P11).
-func Salvage(s string) (api.Info, [][]int, api.Errno) { return api.Info{}, nil, api.OK }
+func Salvage(s string) (api.Info, [][]int, api.Errno) {
+	if len(s) > api.MaxStream {
+		return api.Info{}, nil, api.ErrLong
+	}
+	return stream.Salvage(s)
+}
 
 // From gives a stream's samples back from a place on (P12).
-func From(s string, at int) ([][]int, api.Errno) { return nil, api.OK }
+func From(s string, at int) ([][]int, api.Errno) {
+	if len(s) > api.MaxStream {
+		return nil, api.ErrLong
+	}
+	return stream.From(s, at)
+}
 
 // New makes a line; the sink's write of the number fail fails (P13).
 func New(c api.Config, sound [][]int, fail int) (*Line, api.Errno) { return nil, api.OK }
