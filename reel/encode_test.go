@@ -178,24 +178,37 @@ func TestEncodeHangsOnWhatItIsGiven(t *testing.T) {
 	}
 }
 
-func TestEncodeErrorsInTheirOrder(t *testing.T) {
-	for i, c := range []struct {
-		change func(c *api.Config)
-		sound  [][]int
-		want   api.Errno
+// wrongSounds are configurations that are not right, and sounds that are none of theirs.
+func wrongSounds() []struct {
+	c     api.Config
+	sound [][]int
+	want  api.Errno
+} {
+	changed := func(change func(c *api.Config)) api.Config {
+		c := rightConfig()
+		change(&c)
+		return c
+	}
+	pair := changed(func(c *api.Config) { c.Channels = 2 })
+	return []struct {
+		c     api.Config
+		sound [][]int
+		want  api.Errno
 	}{
-		{func(c *api.Config) { *c = api.Config{} }, nil, api.ErrConfig}, {func(c *api.Config) { c.Channels = 0 }, [][]int{}, api.ErrConfig},
-		{func(c *api.Config) { c.Channels = 5 }, silent(5, 1), api.ErrConfig}, {func(c *api.Config) { c.Depth = 13 }, [][]int{{8}}, api.ErrConfig},
-		{func(c *api.Config) { c.Block = 0 }, [][]int{{1}}, api.ErrConfig}, {func(c *api.Config) { c.Rate = 65536 }, [][]int{{1}}, api.ErrConfig},
-		{func(c *api.Config) { c.Seek = 256 }, [][]int{{1}}, api.ErrConfig}, {func(c *api.Config) { c.Workers = 0 }, [][]int{{1}}, api.ErrConfig},
-		{func(c *api.Config) { c.Window = 17 }, [][]int{{1}}, api.ErrConfig}, {func(c *api.Config) { c.Room = 9 }, [][]int{{99}}, api.ErrConfig},
-		{func(c *api.Config) {}, nil, api.ErrSound}, {func(c *api.Config) {}, [][]int{{1}, {1}}, api.ErrSound}, {func(c *api.Config) {}, [][]int{{8}}, api.ErrSound},
-		{func(c *api.Config) {}, [][]int{{math.MinInt}}, api.ErrSound}, {func(c *api.Config) {}, silent(1, 301), api.ErrSound},
-		{func(c *api.Config) { c.Channels = 2 }, [][]int{{1, 2}, {1}}, api.ErrSound}, {func(c *api.Config) { c.Channels = 2 }, [][]int{{}, {1}}, api.ErrSound},
-	} {
-		config := rightConfig()
-		c.change(&config)
-		if s, e := Encode(config, c.sound); s != "" || e != c.want {
+		{api.Config{}, nil, api.ErrConfig}, {changed(func(c *api.Config) { c.Channels = 0 }), [][]int{}, api.ErrConfig},
+		{changed(func(c *api.Config) { c.Channels = 5 }), silent(5, 1), api.ErrConfig}, {changed(func(c *api.Config) { c.Depth = 13 }), [][]int{{8}}, api.ErrConfig},
+		{changed(func(c *api.Config) { c.Block = 0 }), [][]int{{1}}, api.ErrConfig}, {changed(func(c *api.Config) { c.Rate = 65536 }), [][]int{{1}}, api.ErrConfig},
+		{changed(func(c *api.Config) { c.Seek = 256 }), [][]int{{1}}, api.ErrConfig}, {changed(func(c *api.Config) { c.Workers = 0 }), [][]int{{1}}, api.ErrConfig},
+		{changed(func(c *api.Config) { c.Window = 17 }), [][]int{{1}}, api.ErrConfig}, {changed(func(c *api.Config) { c.Room = 9 }), [][]int{{99}}, api.ErrConfig},
+		{rightConfig(), nil, api.ErrSound}, {rightConfig(), [][]int{{1}, {1}}, api.ErrSound}, {rightConfig(), [][]int{{8}}, api.ErrSound},
+		{rightConfig(), [][]int{{math.MinInt}}, api.ErrSound}, {rightConfig(), silent(1, 301), api.ErrSound},
+		{pair, [][]int{{1, 2}, {1}}, api.ErrSound}, {pair, [][]int{{}, {1}}, api.ErrSound},
+	}
+}
+
+func TestEncodeErrorsInTheirOrder(t *testing.T) {
+	for i, c := range wrongSounds() {
+		if s, e := Encode(c.c, c.sound); s != "" || e != c.want {
 			t.Errorf("P9: call %d: %q, %d, want %d", i, s, e, c.want)
 		}
 	}

@@ -112,6 +112,100 @@ func TestEncodeWritesNothing(t *testing.T) {
 	}
 }
 
+// A line has a copy of its sound: the caller may write into the lists from the
+// first step on.
+func TestNewWritesAndKeepsNothing(t *testing.T) {
+	r := ruler(34)
+	for channels := 1; channels <= 4; channels++ {
+		for _, n := range []int{0, 1, 2, 7, 20} {
+			c := configOf(channels, 9, 3)
+			c.Seek, c.Workers, c.Room = n%3, 2, 2
+			want := anySound(&r, c, n)
+			all := make([][]int, channels, channels+1)
+			for i := range all {
+				all[i] = spared(want[i])
+			}
+			all[:channels+1][channels] = []int{9}
+			for _, steps := range []int{0, 1, 9, 1000} {
+				l, m := newLine(t, c, all, 0)
+				for range min(steps, 6*len(m.frames)+6) {
+					stepBoth(t, l, m, r.below(100))
+				}
+				for i, list := range all {
+					untouched(t, "a line", list, want[i])
+				}
+				if behind := all[:channels+1][channels]; len(behind) != 1 || behind[0] != 9 {
+					t.Error("P2: a line wrote behind the lists")
+				}
+				for i, list := range all {
+					clear(list[:cap(list)])
+					all[i] = nil
+				}
+				runOut(t, l, m, first)
+				if l.Bytes() != streamOf(c, want) {
+					t.Errorf("P2: behind %d steps a line hangs on the lists that it was given", steps)
+				}
+				for i := range all {
+					all[i] = spared(want[i])
+				}
+			}
+		}
+	}
+}
+
+func TestListsOfALineAreNew(t *testing.T) {
+	r := ruler(35)
+	for range 40 {
+		l, m := anyLine(t, &r, r.below(25), r.below(20))
+		for !m.over() {
+			areNew(t, func() [][]int { return [][]int{l.Able()} })
+			areNew(t, func() [][]int {
+				v := l.Look()
+				return [][]int{v.Held, v.Shelf, v.Ended}
+			})
+			stepBoth(t, l, m, r.below(100))
+			isAs(t, l, m)
+		}
+	}
+}
+
+// What Bytes answered stays as it was while the sink takes more.
+func TestBytesOfALineStay(t *testing.T) {
+	l, m := exampleLine(t, 0)
+	var answers, copies []string
+	for !m.over() {
+		answers = append(answers, l.Bytes())
+		copies = append(copies, strings.Clone(l.Bytes()))
+		stepBoth(t, l, m, 0)
+	}
+	if !slices.Equal(answers, copies) {
+		t.Errorf("P2: answers of Bytes turned from %q into %q", copies, answers)
+	}
+}
+
+// Lines of one sound step in turn, some are stopped, and none moves another.
+func TestLinesHaveNothingToDoWithOneAnother(t *testing.T) {
+	r := ruler(36)
+	c := anyConfig(&r)
+	sound := anySound(&r, c, 20)
+	var lines []*Line
+	var models []*model
+	for fail := range 6 {
+		l, m := newLine(t, c, sound, fail)
+		lines, models = append(lines, l), append(models, m)
+	}
+	for range 3000 {
+		i := r.below(len(lines))
+		if r.below(400) == 0 {
+			cancelBoth(t, lines[i], models[i])
+		} else if !models[i].over() {
+			stepBoth(t, lines[i], models[i], r.below(100))
+		}
+		j := r.below(len(lines))
+		isAs(t, lines[j], models[j])
+	}
+}
+
 // One list may stand for two channels.
 func TestOneListTwice(t *testing.T) {
 	l := []int{3, 1, 4, 1, 5}
@@ -292,6 +386,21 @@ func TestEveryCallEnds(t *testing.T) {
 		for n := range len(lists) + 1 {
 			if s, e := Encode(configOf(channels, 4, 32), lists[:n]); e != api.OK && s != "" {
 				t.Errorf("P1: Encode answers %q with the error %d", s, e)
+			}
+		}
+	}
+	for channels := range 6 {
+		for n := range len(lists) + 1 {
+			for _, fail := range odd {
+				l, e := New(configOf(channels, 4, 32), lists[:n], fail)
+				if (l == nil) != (e != api.OK) {
+					t.Errorf("P1: New answers %v with the error %d", l, e)
+				}
+				for i := 0; l != nil && i < 100; i++ {
+					if n, e := l.Step(odd[i%len(odd)]); e != api.OK && n != 0 {
+						t.Errorf("P1: Step answers %d with the error %d", n, e)
+					}
+				}
 			}
 		}
 	}

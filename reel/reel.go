@@ -6,13 +6,16 @@ import (
 	"reel/bittext"
 	"reel/frame"
 	"reel/limits"
+	"reel/line"
 	"reel/stream"
 	"reel/subframe"
 	"reel/sums"
 )
 
 // Line packs one sound, a step at a time.
-type Line struct{}
+type Line struct {
+	tasks *line.Line
+}
 
 // Check tells whether a configuration and a sound of it are right (P3).
 func Check(c api.Config, sound [][]int) api.Errno {
@@ -130,22 +133,41 @@ func From(s string, at int) ([][]int, api.Errno) {
 }
 
 // New makes a line; the sink's write of the number fail fails (P13).
-func New(c api.Config, sound [][]int, fail int) (*Line, api.Errno) { return nil, api.OK }
+func New(c api.Config, sound [][]int, fail int) (*Line, api.Errno) {
+	if errno := Check(c, sound); errno != api.OK {
+		return nil, errno
+	}
+	return &Line{line.New(c, sound, fail)}, api.OK
+}
 
 // Able tells which tasks are able to step (P15).
-func (l *Line) Able() []int { return nil }
+func (l *Line) Able() []int { return l.tasks.Able() }
 
 // Step lets one of the tasks that are able make a step, and tells which (P15).
-func (l *Line) Step(pick int) (int, api.Errno) { return 0, api.OK }
+func (l *Line) Step(pick int) (int, api.Errno) {
+	if l.tasks.Over() {
+		return 0, api.ErrOver
+	}
+	if pick < 0 {
+		return 0, api.ErrArg
+	}
+	return l.tasks.Step(pick), api.OK
+}
 
 // Cancel stops the line (P15).
-func (l *Line) Cancel() api.Errno { return api.OK }
+func (l *Line) Cancel() api.Errno {
+	if l.tasks.Over() || l.tasks.Stopped() {
+		return api.ErrOver
+	}
+	l.tasks.Stop()
+	return api.OK
+}
 
 // Look tells how the line is (P16).
-func (l *Line) Look() api.View { return api.View{} }
+func (l *Line) Look() api.View { return l.tasks.Look() }
 
 // Bytes tells what the sink holds (P16).
-func (l *Line) Bytes() string { return "" }
+func (l *Line) Bytes() string { return l.tasks.Bytes() }
 
 // Pack packs a sound into a stream, with workers beside one another (P17).
 func Pack(c api.Config, sound [][]int) (string, api.Errno) { return "", api.OK }

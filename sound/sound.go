@@ -3,6 +3,9 @@ package sound
 
 import "reel/sums"
 
+// SumOfNothing is the sum of a sound without samples.
+const SumOfNothing = sums.SumOfNothing
+
 // sampleSize is how many bytes a sample has in the sum.
 const sampleSize = 2
 
@@ -30,6 +33,12 @@ func Block(lists [][]int, size, number int) [][]int {
 
 // Sum is the sum of a sound, which has at least one channel.
 func Sum(lists [][]int) int {
+	return SumOn(SumOfNothing, lists)
+}
+
+// SumOn is the sum of a sound up to the end of a block; that of all ahead of the
+// block is told.
+func SumOn(sum int, lists [][]int) int {
 	out := make([]byte, 0, sampleSize*len(lists)*len(lists[0]))
 	for place := range lists[0] {
 		for _, l := range lists {
@@ -38,5 +47,5 @@ func Sum(lists [][]int) int {
 			out = append(out, byte(v), byte(v>>8))
 		}
 	}
-	return sums.Sum(string(out))
+	return sums.SumOn(sum, string(out))
 }

@@ -56,3 +56,17 @@ func TestSum(t *testing.T) {
 		}
 	}
 }
+
+// Block by block the sum is that of the whole.
+func TestSumOn(t *testing.T) {
+	lists := [][]int{{1, -2, 300, -2048, 2047, 0, -1}, {5, 700, -2000, 9, -9, 255, 256}}
+	for size := 1; size <= 8; size++ {
+		sum := SumOfNothing
+		for number := range Blocks(7, size) {
+			sum = SumOn(sum, Block(lists, size, number))
+		}
+		if sum != Sum(lists) {
+			t.Errorf("by blocks of %d the sum is %d, want %d", size, sum, Sum(lists))
+		}
+	}
+}

@@ -9,6 +9,9 @@ const (
 	SixteenSize = 2
 )
 
+// SumOfNothing is the sum of no bytes.
+const SumOfNothing = 1
+
 const (
 	eightDivisor   = 0b100000111
 	sixteenDivisor = 0b11000000000000101
@@ -64,7 +67,12 @@ func remainder(s string, size, divisor int) int {
 
 // Sum is the sum of bytes.
 func Sum(s string) int {
-	a, b := 1, 0
+	return SumOn(SumOfNothing, s)
+}
+
+// SumOn is the sum of bytes that stand behind others, of which the sum is told.
+func SumOn(sum int, s string) int {
+	a, b := sum%sumHalf, sum/sumHalf
 	for i := range len(s) {
 		a = (a + int(s[i])) % sumModulus
 		b = (b + a) % sumModulus

@@ -1,6 +1,9 @@
 package sums
 
-import "testing"
+import (
+	"strings"
+	"testing"
+)
 
 func TestKnownChecks(t *testing.T) {
 	const s = "123456789"
@@ -41,5 +44,18 @@ func TestSeals(t *testing.T) {
 		if IsSealedBySixteen(broken) {
 			t.Errorf("%q is taken for sealed by Sixteen", broken)
 		}
+	}
+}
+
+// Wherever bytes are cut, the sum goes on behind the cut.
+func TestSumOn(t *testing.T) {
+	s := "123456789" + strings.Repeat("\xff", 600)
+	for i := range len(s) + 1 {
+		if n, want := SumOn(Sum(s[:i]), s[i:]), Sum(s); n != want {
+			t.Errorf("cut at %d the sum is %d, want %d", i, n, want)
+		}
+	}
+	if Sum("") != SumOfNothing {
+		t.Errorf("the sum of nothing is %d", Sum(""))
 	}
 }
