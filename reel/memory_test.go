@@ -77,38 +77,45 @@ func TestFrameWritesNothing(t *testing.T) {
 	}
 }
 
-func TestEncodeWritesNothing(t *testing.T) {
+func TestEncodeAndPackWriteAndKeepNothing(t *testing.T) {
 	r := ruler(28)
 	for channels := 1; channels <= 4; channels++ {
 		for _, n := range []int{0, 1, 2, 7, 40} {
 			c := configOf(channels, 9, 3)
-			c.Seek = n % 3
+			c.Seek, c.Workers = n%3, 1+n%8
 			want := anySound(&r, c, n)
-			all := make([][]int, channels, channels+1)
-			for i := range all {
-				all[i] = spared(want[i])
-			}
-			all[:channels+1][channels] = []int{9}
-			before, e := Encode(c, all)
-			if e != api.OK {
-				t.Fatalf("Encode: %d", e)
-			}
-			for i, l := range all {
-				untouched(t, "Encode", l, want[i])
-			}
-			if behind := all[:channels+1][channels]; len(behind) != 1 || behind[0] != 9 {
-				t.Error("P2: Encode wrote behind the lists")
-			}
-			for _, l := range all {
-				clear(l[:cap(l)])
-			}
-			if again, _ := Encode(c, want); again != before {
-				t.Error("P2: Encode kept the lists")
-			}
-			if zeros, _ := Encode(c, all); zeros != streamOf(c, all) {
-				t.Error("P2: Encode answers what it was asked before")
-			}
+			writesAndKeepsNothing(t, "Encode", Encode, c, want)
+			writesAndKeepsNothing(t, "Pack", Pack, c, want)
 		}
+	}
+}
+
+// writesAndKeepsNothing holds a call that makes a stream of a sound to P2.
+func writesAndKeepsNothing(t *testing.T, name string, call func(c api.Config, sound [][]int) (string, api.Errno), c api.Config, want [][]int) {
+	t.Helper()
+	all := make([][]int, c.Channels, c.Channels+1)
+	for i := range all {
+		all[i] = spared(want[i])
+	}
+	all[:c.Channels+1][c.Channels] = []int{9}
+	before, e := call(c, all)
+	if e != api.OK {
+		t.Fatalf("%s: %d", name, e)
+	}
+	for i, l := range all {
+		untouched(t, name, l, want[i])
+	}
+	if behind := all[:c.Channels+1][c.Channels]; len(behind) != 1 || behind[0] != 9 {
+		t.Errorf("P2: %s wrote behind the lists", name)
+	}
+	for _, l := range all {
+		clear(l[:cap(l)])
+	}
+	if again, _ := call(c, want); again != before {
+		t.Errorf("P2: %s kept the lists", name)
+	}
+	if zeros, _ := call(c, all); zeros != streamOf(c, all) {
+		t.Errorf("P2: %s answers what it was asked before", name)
 	}
 }
 
@@ -213,8 +220,10 @@ func TestOneListTwice(t *testing.T) {
 	checkFrame(t, configOf(4, 4, 5), 0, [][]int{l, l, l, l})
 	checkEncode(t, configOf(2, 4, 2), [][]int{l, l})
 	checkEncode(t, configOf(4, 4, 2), [][]int{l, l, l, l})
+	checkPack(t, configOf(2, 4, 2), [][]int{l, l})
+	checkPack(t, configOf(4, 4, 2), [][]int{l, l, l, l})
 	if !slices.Equal(l, []int{3, 1, 4, 1, 5}) {
-		t.Errorf("P2: Frame or Encode wrote into what it was given: %v", l)
+		t.Errorf("P2: Frame, Encode or Pack wrote into what it was given: %v", l)
 	}
 }
 
@@ -386,6 +395,13 @@ func TestEveryCallEnds(t *testing.T) {
 		for n := range len(lists) + 1 {
 			if s, e := Encode(configOf(channels, 4, 32), lists[:n]); e != api.OK && s != "" {
 				t.Errorf("P1: Encode answers %q with the error %d", s, e)
+			}
+			for _, workers := range odd {
+				c := configOf(channels, 4, 32)
+				c.Workers = workers
+				if s, e := Pack(c, lists[:n]); e != api.OK && s != "" {
+					t.Errorf("P1: Pack answers %q with the error %d", s, e)
+				}
 			}
 		}
 	}

@@ -4,6 +4,7 @@ package reel
 import (
 	"reel/api"
 	"reel/bittext"
+	"reel/crew"
 	"reel/frame"
 	"reel/limits"
 	"reel/line"
@@ -170,4 +171,9 @@ func (l *Line) Look() api.View { return l.tasks.Look() }
 func (l *Line) Bytes() string { return l.tasks.Bytes() }
 
 // Pack packs a sound into a stream, with workers beside one another (P17).
-func Pack(c api.Config, sound [][]int) (string, api.Errno) { return "", api.OK }
+func Pack(c api.Config, sound [][]int) (string, api.Errno) {
+	if errno := Check(c, sound); errno != api.OK {
+		return "", errno
+	}
+	return crew.Pack(c, sound), api.OK
+}

@@ -14,12 +14,18 @@ import (
 // Encode is the stream of a sound of a right configuration.
 func Encode(c api.Config, lists [][]int) string {
 	info := limits.InfoOf(c, len(lists[0]))
-	var frames strings.Builder
-	var lengths []int
+	var frames []string
 	for number := range sound.Blocks(info.Samples, c.Block) {
-		made := frame.Make(c, number, sound.Block(lists, c.Block, number))
-		frames.WriteString(made)
-		lengths = append(lengths, len(made))
+		frames = append(frames, frame.Make(c, number, sound.Block(lists, c.Block, number)))
 	}
-	return head.Finished(info, lengths, sound.Sum(lists)).Lay() + frames.String()
+	return Join(info, frames, sound.Sum(lists))
+}
+
+// Join is the stream of a sound with this sum, whose blocks have these frames.
+func Join(info api.Info, frames []string, sum int) string {
+	var lengths []int
+	for _, f := range frames {
+		lengths = append(lengths, len(f))
+	}
+	return head.Finished(info, lengths, sum).Lay() + strings.Join(frames, "")
 }
